@@ -27,9 +27,47 @@ const (
 	Byte
 )
 
-// The instructions that tell where a code may be jumped to.
+// Stop ends a frame, and so does the end of a code.
+const Stop = 0
+
+// The instructions that ask what a frame has.
 const (
-	Mark   = 48
+	Self = iota + 24
+	Balance
+	Caller
+	Value
+	Size
+	Arg
+	Gas
+	Place
+	Room
+)
+
+// The instructions that move words, and those that go elsewhere.
+const (
+	Pop = iota + 40
+	Load
+	Store
+	Store8
+	Keep
+	Put
+	Jump
+	JumpIf
+	Mark
+)
+
+// The instructions that give bytes of the memory away.
+const (
+	Log    = 50
+	Return = 63
+)
+
+// The instructions that there are in rows: Push 1 to 32, Dup 1 to 16, Swap 1 to 16.
+const (
 	Push1  = 96
 	Push32 = 127
+	Dup1   = 128
+	Dup16  = 143
+	Swap1  = 144
+	Swap16 = 159
 )

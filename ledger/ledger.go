@@ -21,9 +21,10 @@ type account struct {
 	slots   map[api.Word]api.Word
 }
 
-// Ledger is accounts by their IDs.
+// Ledger is accounts by their IDs, and what was done to them since it was settled.
 type Ledger struct {
 	accounts map[int]*account
+	changes  []change
 }
 
 // New makes a ledger of accounts that are allowed.

@@ -5,6 +5,7 @@ import (
 	"purser/api"
 	"purser/ledger"
 	"purser/number"
+	"purser/order"
 )
 
 // World is a world of accounts.
@@ -24,7 +25,7 @@ func New(accounts []api.Account) (*World, error) {
 func Work(op byte, a, b, c api.Word) api.Word { return number.Work(op, a, b, c) }
 
 // Do does what is ordered (P5 to P9).
-func (w *World) Do(o api.Order) (api.Result, error) { return api.Result{}, nil }
+func (w *World) Do(o api.Order) (api.Result, error) { return order.Do(w.ledger, o) }
 
 // Accounts tells all accounts (P10).
 func (w *World) Accounts() []api.Account { return w.ledger.Accounts() }
