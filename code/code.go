@@ -56,10 +56,16 @@ const (
 	Mark
 )
 
-// The instructions that give bytes of the memory away.
+// Log tells bytes of the memory.
+const Log = 50
+
+// The instructions that begin another frame, and those that end their own.
 const (
-	Log    = 50
-	Return = 63
+	Create = iota + 60
+	Call
+	Lend
+	Return
+	Destroy
 )
 
 // The instructions that there are in rows: Push 1 to 32, Dup 1 to 16, Swap 1 to 16.

@@ -12,6 +12,8 @@ func ShapeOf(instruction byte) (Shape, bool) {
 		return Shape{0, 0, 0}, true
 	case Return:
 		return Shape{2, 0, 0}, true
+	case Destroy:
+		return Shape{1, 0, 0}, true
 	case Mark:
 		return Shape{0, 0, 1}, true
 	case Self, Caller, Value, Size, Gas, Place, Room:
@@ -34,6 +36,12 @@ func ShapeOf(instruction byte) (Shape, bool) {
 		return Shape{3, 0, 375}, true
 	case Put:
 		return Shape{2, 0, 5000}, true
+	case Create:
+		return Shape{3, 1, 32000}, true
+	case Call:
+		return Shape{7, 1, 40}, true
+	case Lend:
+		return Shape{6, 1, 40}, true
 	}
 	if instruction <= Byte {
 		return shapeOfWork(instruction), true

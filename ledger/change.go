@@ -8,7 +8,7 @@ import (
 	"purser/number"
 )
 
-// ErrLittle is why coins are not sent: there are too few.
+// ErrLittle is why coins cannot be sent: there are too few.
 var ErrLittle = errors.New("too few coins")
 
 // Has tells whether there is an account.
@@ -32,14 +32,25 @@ func (l *Ledger) Code(id int) (string, code.Marks) {
 // Slot is what an account keeps under a key.
 func (l *Ledger) Slot(id int, key api.Word) api.Word { return l.look(id).slots[key] }
 
-// Send sends coins, even none, from one account to another.
-func (l *Ledger) Send(from, to int, coins api.Word) error {
-	if number.Less(l.Balance(from), coins) {
+// Afford is ErrLittle, if an account has less than so many coins.
+func (l *Ledger) Afford(id int, coins api.Word) error {
+	if number.Less(l.Balance(id), coins) {
 		return ErrLittle
 	}
+	return nil
+}
+
+// NewID is the ID of an account that is created. It is never given again, even if the creation is undone.
+func (l *Ledger) NewID() int {
+	id := api.FirstNew + l.created
+	l.created++
+	return id
+}
+
+// Send sends coins that an account has, even none, to another.
+func (l *Ledger) Send(from, to int, coins api.Word) {
 	l.Take(from, coins)
 	l.Give(to, coins)
-	return nil
 }
 
 // Take takes coins that an account has.
@@ -64,6 +75,23 @@ func (l *Ledger) RaiseNonce(id int) {
 	a := l.touch(id)
 	l.note(changedNonce{of: a, before: a.nonce})
 	a.nonce++
+}
+
+// SetCode gives an account its code.
+func (l *Ledger) SetCode(id int, text string) {
+	a := l.touch(id)
+	l.note(changedCode{of: a, code: a.code, marks: a.marks})
+	a.code, a.marks = text, code.FindMarks(text)
+}
+
+// Doom has an account be destroyed when all is settled; false, if it was to be already.
+func (l *Ledger) Doom(id int) bool {
+	if _, is := l.doomed[id]; is {
+		return false
+	}
+	l.doomed[id] = struct{}{}
+	l.note(cameToBeDoomed{id: id})
+	return true
 }
 
 // Put makes an account keep a word under a key.

@@ -21,16 +21,21 @@ type account struct {
 	slots   map[api.Word]api.Word
 }
 
-// Ledger is accounts by their IDs, and what was done to them since it was settled.
+// Ledger is accounts by their IDs, how many of them were created, and what was done to them since it was settled.
 type Ledger struct {
 	accounts map[int]*account
+	created  int
 	changes  []change
+	doomed   map[int]struct{}
 }
 
 // New makes a ledger of accounts that are allowed.
 func New(accounts []api.Account) *Ledger {
 	marks := findMarks(accounts)
-	l := &Ledger{accounts: make(map[int]*account, len(accounts))}
+	l := &Ledger{
+		accounts: make(map[int]*account, len(accounts)),
+		doomed:   make(map[int]struct{}),
+	}
 	for i, a := range accounts {
 		l.accounts[a.ID] = &account{
 			balance: a.Balance,

@@ -14,9 +14,13 @@ var (
 	ErrManyWords     = errors.New("too many words")
 	ErrNoGas         = errors.New("not gas enough")
 	ErrNoMark        = errors.New("no mark")
+	ErrLongCode      = errors.New("too long a code")
 )
 
-// End is how a call ended: Well or Badly.
+// ErrDeep is why no frame is begun: there are as many as there may be. (Too few coins are the other reason.)
+var ErrDeep = errors.New("too deep")
+
+// End is how a call or a creation ended: Well, Made or Badly.
 type End interface {
 	// Left is the gas that comes back to the one who called.
 	Left() int
@@ -28,7 +32,12 @@ type Well struct {
 	Out string
 }
 
-// Badly is the end of a frame that went wrong, or of a call that no frame was begun for, with the gas that there was and why.
+// Made is the end of a creation that went well, with the gas that is left and the account that was created.
+type Made struct {
+	Gas, ID int
+}
+
+// Badly is the end of a frame that went wrong, or of what no frame was begun for, with the gas that there was and why.
 type Badly struct {
 	Gas int
 	Why error
@@ -37,9 +46,12 @@ type Badly struct {
 // Left is all that the frame has left.
 func (w Well) Left() int { return w.Gas }
 
-// Left is nothing, unless there were too few coins for a frame to begin.
+// Left is all that is left behind the payment for the code.
+func (m Made) Left() int { return m.Gas }
+
+// Left is nothing, unless no frame was begun.
 func (b Badly) Left() int {
-	if errors.Is(b.Why, ledger.ErrLittle) {
+	if errors.Is(b.Why, ErrDeep) || errors.Is(b.Why, ledger.ErrLittle) {
 		return b.Gas
 	}
 	return 0

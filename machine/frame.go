@@ -12,6 +12,12 @@ const (
 	clearedSlot = 15000
 )
 
+// What Call costs more with a value, and for an account that there is not.
+const (
+	anyValue     = 9000
+	freshAccount = 25000
+)
+
 // frame runs a code.
 type frame struct {
 	machine      *Machine
@@ -20,7 +26,7 @@ type frame struct {
 	marks        code.Marks
 	self, caller int
 	value        api.Word
-	data         string
+	data         []byte // may be a piece of the caller's memory, which lies still as long as this frame runs
 	gas          int
 	stack        stack
 	memory       memory
@@ -45,7 +51,9 @@ func (f *frame) step() End {
 	}
 	f.next = f.place + code.Length(instruction)
 	end := f.do(instruction)
-	f.place = f.next
+	if end == nil {
+		f.place = f.next
+	}
 	return end
 }
 
@@ -97,8 +105,24 @@ func (f *frame) touches(instruction byte) (int, error) {
 		return reach(f.stack.at(1), api.Word{1})
 	case code.Log, code.Return:
 		return reach(f.stack.at(1), f.stack.at(2))
+	case code.Create:
+		return reach(f.stack.at(2), f.stack.at(3))
+	case code.Call:
+		return f.farther(4)
+	case code.Lend:
+		return f.farther(3)
 	}
 	return 0, nil
+}
+
+// farther is how far two stretches reach, the first of which begins at the n-th word from the top.
+func (f *frame) farther(n int) (int, error) {
+	first, err := reach(f.stack.at(n), f.stack.at(n+1))
+	if err != nil {
+		return 0, err
+	}
+	second, err := reach(f.stack.at(n+2), f.stack.at(n+3))
+	return max(first, second), err
 }
 
 // extra is what an instruction costs by its words. The bytes of a Log are within reach by now, so they are few enough to be counted.
@@ -112,8 +136,32 @@ func (f *frame) extra(instruction byte) int {
 		}
 	case code.Log:
 		return 8 * int(f.stack.at(2)[0])
+	case code.Call:
+		return f.handed() + f.extraOfCall()
+	case code.Lend:
+		return f.handed()
 	}
 	return 0
+}
+
+// handed is the gas that Call and Lend hand on; of more than the frame has, one more than it has, which is too much as well.
+func (f *frame) handed() int {
+	gas, is := number.Index(f.stack.at(1), f.gas+1)
+	if !is {
+		return f.gas + 1
+	}
+	return gas
+}
+
+func (f *frame) extraOfCall() int {
+	extra := 0
+	if f.stack.at(3) != (api.Word{}) {
+		extra += anyValue
+	}
+	if !f.machine.ledger.Has(number.ID(f.stack.at(2))) {
+		extra += freshAccount
+	}
+	return extra
 }
 
 func (f *frame) kept(key api.Word) api.Word { return f.machine.ledger.Slot(f.self, key) }

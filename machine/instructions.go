@@ -31,6 +31,10 @@ func (f *frame) do(instruction byte) End {
 		f.put(f.stack.take(), f.stack.take())
 	case code.Log:
 		f.tell(f.stack.take(), f.stack.take(), f.stack.take())
+	case code.Create, code.Call, code.Lend:
+		f.goDeeper(instruction)
+	case code.Destroy:
+		return f.destroy(number.ID(f.stack.take()))
 	case code.Mark:
 	default:
 		f.layOn(instruction)
@@ -141,7 +145,7 @@ func (f *frame) pushed() api.Word {
 }
 
 // piece is the number of the first n bytes of a text, with 0 for those behind its end; n is at most 32.
-func piece(text string, n int) api.Word {
+func piece[T string | []byte](text T, n int) api.Word {
 	var list [wordBytes]byte
 	copy(list[:n], text)
 	return number.FromBytes(list[:n])

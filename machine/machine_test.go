@@ -55,6 +55,13 @@ func TestWhy(t *testing.T) {
 		{"no Mark", "\x60\x00\x2e", 11, ErrNoMark, 2},
 		{"no Mark, if", "\x60\x01\x60\x00\x2f", 16, ErrNoMark, 4},
 		{"a Mark within a Push", "\x60\x04\x2e\x60\x30", enough, ErrNoMark, 2},
+		{"too few words for Create", "\x18\x18\x3c", 4, ErrFewWords, 2},
+		{"too few words for Call", "\x18\x18\x18\x18\x18\x18\x3d", 12, ErrFewWords, 6},
+		{"too few words for Lend", "\x18\x18\x18\x18\x18\x3e", 10, ErrFewWords, 5},
+		{"too few words for Destroy", "\x40", 0, ErrFewWords, 0},
+		{"not gas enough for Create", "\x18\x18\x18\x3c", 32000, ErrNoGas, 3},
+		{"not gas enough for Call", "\x18\x18\x18\x18\x18\x18\x18\x3d", 14 + 9040, ErrNoGas, 7},
+		{"not gas enough for Lend", "\x18\x18\x18\x18\x18\x18\x3e", 12 + 40, ErrNoGas, 6},
 	} {
 		end, _, _ := called(c.code, c.gas)
 		err := whyOf(end)
@@ -117,20 +124,82 @@ func TestUndo(t *testing.T) {
 	}
 }
 
-// TestTooFewCoins: a call that no frame begins for has all its gas back, and changes nothing.
-func TestTooFewCoins(t *testing.T) {
-	l := ledger.New([]api.Account{{ID: 1, Balance: of(10)}})
-	before := l.Accounts()
-	end := New(l).Call(Call{Caller: 1, To: 9, Value: of(11), Gas: 77})
-	if !errors.Is(whyOf(end), ledger.ErrLittle) || end.Left() != 77 {
-		t.Errorf("%+v, %d gas left, want 77", end, end.Left())
+// TestNotBegun: what no frame begins for has all its gas back, and changes nothing: no nonce, no ID, no account.
+func TestNotBegun(t *testing.T) {
+	for _, c := range []struct {
+		depth int
+		value api.Word
+		why   error
+	}{{0, of(11), ledger.ErrLittle}, {63, api.Word{0, 1}, ledger.ErrLittle}, {64, of(0), ErrDeep}, {64, of(10), ErrDeep}, {64, of(11), ErrDeep}} {
+		l := ledger.New([]api.Account{{ID: 1, Balance: of(10)}})
+		m := New(l)
+		m.depth = c.depth
+		ends := []End{m.Call(Call{Caller: 1, To: 9, Value: c.value, Gas: 77}), m.Create(Creation{Creator: 1, Value: c.value, Gas: 77})}
+		if c.why == ErrDeep {
+			ends = append(ends, m.lend(1, &frame{self: 1}, 77, nil))
+		}
+		for _, end := range ends {
+			if !errors.Is(whyOf(end), c.why) || end.Left() != 77 {
+				t.Errorf("P6: %+v, %d gas left, want 77 and %v", end, end.Left(), c.why)
+			}
+			var fault *Fault
+			if errors.As(whyOf(end), &fault) {
+				t.Errorf("P6: a fault %v, where no frame was", fault)
+			}
+		}
+		if l.Now() != 0 || l.NewID() != api.FirstNew || m.depth != c.depth {
+			t.Errorf("P6: accounts %v, depth %d", l.Accounts(), m.depth)
+		}
 	}
-	var fault *Fault
-	if errors.As(whyOf(end), &fault) {
-		t.Errorf("a fault %v, where no frame was", fault)
+}
+
+// TestDepthCounted: however frames end, as many are counted as there are.
+func TestDepthCounted(t *testing.T) {
+	for _, code := range []string{"", "\xff", "\x18\x40", "\x60\x01\x60\x00\x3f"} {
+		l := ledger.New([]api.Account{{ID: 1, Balance: of(10)}, {ID: 2, Code: code}})
+		m := New(l)
+		for range 200 {
+			m.Call(Call{Caller: 1, To: 2, Gas: enough})
+			m.Create(Creation{Creator: 1, Gas: enough, Code: code})
+			m.lend(2, &frame{self: 1}, enough, nil)
+		}
+		if m.depth != 0 {
+			t.Errorf("P6: %x: the depth is %d behind all frames", code, m.depth)
+		}
 	}
-	if !reflect.DeepEqual(l.Accounts(), before) {
-		t.Errorf("accounts %v, want %v", l.Accounts(), before)
+}
+
+// TestMade: how creations end: with the new account, or why not, and where.
+func TestMade(t *testing.T) {
+	for _, c := range []struct {
+		name, code string
+		gas, left  int
+		why        error
+		place      int
+	}{
+		{"no code", "", 0, 0, nil, 0},
+		{"nothing given", "\x60\x01", 10, 7, nil, 0},
+		{"two bytes", "\x60\x02\x60\x00\x3f", 500, 91, nil, 0},
+		{"two bytes, for just that gas", "\x60\x02\x60\x00\x3f", 409, 0, nil, 0},
+		{"two bytes, for one less", "\x60\x02\x60\x00\x3f", 408, 0, ErrNoGas, 4},
+		{"2001 bytes", "\x61\x07\xd1\x60\x00\x3f", 1000000, 0, ErrLongCode, 5},
+		{"a bad end", "\x30\xff", 500, 0, ErrNoInstruction, 1},
+	} {
+		l := ledger.New([]api.Account{{ID: 1, Balance: of(10)}})
+		end := New(l).Create(Creation{Creator: 1, Value: of(4), Gas: c.gas, Code: c.code})
+		if end.Left() != c.left || !errors.Is(whyOf(end), c.why) || l.Nonce(1) != 1 {
+			t.Errorf("P6: %s: %+v, %d gas left, want %v with %d", c.name, end, end.Left(), c.why, c.left)
+		}
+		if c.why == nil {
+			if made, is := end.(Made); !is || made.ID != api.FirstNew || l.Balance(made.ID) != of(4) {
+				t.Errorf("P6: %s: %+v, %v", c.name, end, l.Accounts())
+			}
+			continue
+		}
+		var fault *Fault
+		if !errors.As(whyOf(end), &fault) || fault.Account != api.FirstNew || fault.Place != c.place || l.Has(api.FirstNew) || l.Balance(1) != of(10) {
+			t.Errorf("P7: %s: %v, %v", c.name, whyOf(end), l.Accounts())
+		}
 	}
 }
 
@@ -147,8 +216,7 @@ func TestPushed(t *testing.T) {
 		"\x7f\x01\x00\xff":     {0, 0, 0, 0x0100ff << 40},
 		"\x60\x09\x7f\x80\x01": {0, 0, 0, 0x8001 << 48},
 	} {
-		f := New(ledger.New(nil)).begin(Call{Gas: enough}, moment{})
-		f.text = code
+		f := New(ledger.New(nil)).begin(frame{gas: enough, text: code})
 		if end, is := f.run().(Well); !is || f.stack.at(1) != want {
 			t.Errorf("P6: %x: %+v, lays on %x, want %x", code, end, f.stack.at(1), want)
 		}

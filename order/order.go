@@ -2,15 +2,10 @@
 package order
 
 import (
-	"errors"
-
 	"purser/api"
 	"purser/ledger"
 	"purser/machine"
 )
-
-// errCreation is why an order of a creation ends badly as yet.
-var errCreation = errors.New("no creations yet")
 
 // Do does an order on the accounts of a ledger, or tells why it is refused.
 func Do(l *ledger.Ledger, o api.Order) (api.Result, error) {
@@ -18,27 +13,22 @@ func Do(l *ledger.Ledger, o api.Order) (api.Result, error) {
 		return api.Result{}, api.Refusal{Why: why}
 	}
 	l.Take(o.From, coins(o.Gas, o.Price))
-	l.RaiseNonce(o.From)
 	m := machine.New(l)
-	end := begin(m, o)
+	end := begin(m, l, o)
 	result := tell(m, end)
 	result.Gas = settle(l, o, end.Left(), m.Back())
 	l.Settle()
 	return result, nil
 }
 
-// begin calls the account that the order is to, with the gas that is left behind what the order costs at once.
-func begin(m *machine.Machine, o api.Order) machine.End {
+// begin calls the account that the order is to, or creates one, with the gas that is left behind what the order costs at once. The nonce goes up once: a creation raises it by itself.
+func begin(m *machine.Machine, l *ledger.Ledger, o api.Order) machine.End {
+	gas := o.Gas - costAtOnce(o)
 	if o.To == 0 {
-		return machine.Badly{Why: errCreation}
+		return m.Create(machine.Creation{Creator: o.From, Value: o.Value, Gas: gas, Code: o.Data})
 	}
-	return m.Call(machine.Call{
-		Caller: o.From,
-		To:     o.To,
-		Value:  o.Value,
-		Gas:    o.Gas - costAtOnce(o),
-		Data:   o.Data,
-	})
+	l.RaiseNonce(o.From)
+	return m.Call(machine.Call{Caller: o.From, To: o.To, Value: o.Value, Gas: gas, Data: []byte(o.Data)})
 }
 
 // tell is what came of an order, but for the gas. Of what ended badly nothing is told.
@@ -46,6 +36,8 @@ func tell(m *machine.Machine, end machine.End) api.Result {
 	switch e := end.(type) {
 	case machine.Well:
 		return api.Result{Good: true, Logs: m.Logs(), Out: e.Out}
+	case machine.Made:
+		return api.Result{Good: true, Logs: m.Logs(), Created: e.ID}
 	default:
 		return api.Result{}
 	}

@@ -1,6 +1,7 @@
 package order
 
 import (
+	"reflect"
 	"testing"
 
 	"purser/api"
@@ -36,14 +37,34 @@ func TestCostAtOnce(t *testing.T) {
 	}
 }
 
-// TestCreationEndsBadly: as long as no account can be created, such an order leaves behind nothing but the gas.
-func TestCreationEndsBadly(t *testing.T) {
-	l := ledger.New([]api.Account{{ID: 1, Balance: api.Word{100000}}})
-	r, err := Do(l, api.Order{From: 1, Gas: 60000, Price: 1, Value: api.Word{9}, Miner: 2})
-	if err != nil || r.Good || r.Gas != 60000 || r.Created != 0 {
-		t.Errorf("%+v, %v", r, err)
+// TestNonceOnce: P6, an order raises the sender's nonce once, whether it calls or creates, and however that ends.
+func TestNonceOnce(t *testing.T) {
+	l := ledger.New([]api.Account{{ID: 1, Balance: api.Word{1000000}}})
+	for nonce, o := range []api.Order{{To: 1}, {To: 0}, {To: 0, Data: "\xff"}, {To: 5, Value: api.Word{3}}} {
+		o.From, o.Nonce, o.Gas, o.Miner = 1, nonce, 60000, 2
+		if _, err := Do(l, o); err != nil || l.Nonce(1) != nonce+1 {
+			t.Errorf("P6: %+v: %v, the nonce is %d, want %d", o, err, l.Nonce(1), nonce+1)
+		}
 	}
-	if l.Balance(1) != (api.Word{40000}) || l.Balance(2) != (api.Word{60000}) || len(l.Accounts()) != 2 {
-		t.Errorf("P7: %v", l.Accounts())
+}
+
+// TestTold: P6, what is told of a call, of a creation, and of what ended badly.
+func TestTold(t *testing.T) {
+	gives := "\x60\x02\x60\x00\x3f"
+	l := ledger.New([]api.Account{{ID: 1}, {ID: 2, Code: gives}, {ID: 3, Code: "\xff"}})
+	for nonce, c := range []struct {
+		o    api.Order
+		want api.Result
+	}{
+		{api.Order{To: 2}, api.Result{Good: true, Gas: 21009, Out: "\x00\x00"}},
+		{api.Order{Data: gives}, api.Result{Good: true, Gas: 53000 + 4*68 + 4 + 9 + 400, Created: 1000000}},
+		{api.Order{To: 3}, api.Result{Gas: 60000}},
+		{api.Order{Data: "\xff"}, api.Result{Gas: 60000}},
+		{api.Order{}, api.Result{Good: true, Gas: 53000, Created: 1000002}},
+	} {
+		c.o.From, c.o.Nonce, c.o.Gas, c.o.Miner = 1, nonce, 60000, 1
+		if got, err := Do(l, c.o); err != nil || !reflect.DeepEqual(got, c.want) {
+			t.Errorf("P6: %+v: %+v, %v, want %+v", c.o, got, err, c.want)
+		}
 	}
 }

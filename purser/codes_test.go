@@ -15,7 +15,8 @@ const (
 	self, balance, caller, value, size  = 24, 25, 26, 27, 28
 	arg, gasLeft, place, room           = 29, 30, 31, 32
 	pop, load, store, store8, keep, put = 40, 41, 42, 43, 44, 45
-	jump, jumpIf, mark, tell, give      = 46, 47, 48, 50, 63
+	jump, jumpIf, mark, tell            = 46, 47, 48, 50
+	create, call, lend, give, destroy   = 60, 61, 62, 63, 64
 	push1, push32, dup1, swap1          = 96, 127, 128, 144
 )
 
@@ -52,6 +53,22 @@ func pushWord(w api.Word) string { return text(push32, inBytes(w)) }
 
 // inBytes is the word's 32 bytes.
 func inBytes(w api.Word) string { return string(large(w).FillBytes(make([]byte, 32))) }
+
+// remembered writes a text into the memory from 0 on, for rememberGas.
+func remembered(list string) string {
+	code := ""
+	for at := 0; at < len(list); at += 32 {
+		piece := (list[at:] + bytesOf(32))[:32]
+		code += text(push32, piece) + push(uint64(at)) + text(store)
+	}
+	return code
+}
+
+// rememberGas is what it costs to remember n bytes, the memory in it.
+func rememberGas(n int) int {
+	words := (n + 31) / 32
+	return 9*words + whole(words)
+}
 
 const (
 	sender = 1
@@ -126,13 +143,18 @@ func fails(t *testing.T, name, code string, slots ...api.Slot) {
 // failsWith checks that a code ends badly with some gas, and leaves nothing behind but the gas.
 func failsWith(t *testing.T, name, code string, gas int, slots ...api.Slot) {
 	t.Helper()
-	w := stage(t, code, slots...)
-	o := ask(gas)
+	endsBadly(t, name, stage(t, code, slots...), ask(gas))
+}
+
+// endsBadly checks that an order of the sender, who has all its riches, ends badly, and leaves nothing behind but the gas.
+func endsBadly(t *testing.T, name string, w *purser.World, o api.Order) {
+	t.Helper()
 	o.Price, o.Value = 3, of(7)
 	want := w.Accounts()
 	want[0].Nonce++
 	want[0].Balance = of(riches - 3*uint64(o.Gas))
 	want = append(want, api.Account{ID: miner, Balance: of(3 * uint64(o.Gas))})
+	slices.SortFunc(want, func(a, b api.Account) int { return a.ID - b.ID })
 	r := does(t, w, o)
 	if !reflect.DeepEqual(r, api.Result{Gas: o.Gas}) {
 		t.Errorf("%s: %+v, want a bad end with all the gas, %d", name, r, o.Gas)

@@ -306,7 +306,7 @@ func TestNoInstruction(t *testing.T) {
 			costs(t, "no instruction behind a Stop", full+text(stop, b), 60)
 		}
 	}
-	takes := map[int]int{balance: 1, arg: 1, pop: 1, load: 1, store: 2, store8: 2, keep: 1, put: 2, jump: 1, jumpIf: 2, tell: 3, give: 2}
+	takes := map[int]int{balance: 1, arg: 1, pop: 1, load: 1, store: 2, store8: 2, keep: 1, put: 2, jump: 1, jumpIf: 2, tell: 3, create: 3, call: 7, lend: 6, give: 2, destroy: 1}
 	for b, n := range takes {
 		fails(t, "too few words", strings.Repeat(push(0), n-1)+text(b))
 	}

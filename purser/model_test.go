@@ -2,29 +2,193 @@ package purser_test
 
 import (
 	"bytes"
+	"maps"
 	"math/big"
-	"math/rand"
-	"reflect"
 	"slices"
-	"testing"
 
 	"purser/api"
-	"purser/purser"
 )
+
+// modelAccount is an account as the document tells it. Its numbers are never written into, so that it may be copied by its slots alone.
+type modelAccount struct {
+	balance *big.Int
+	nonce   int
+	code    string
+	slots   map[api.Word]api.Word
+}
+
+// modelWorld is a world in the plainest way: what may be undone is copied whole ahead of each frame.
+type modelWorld struct {
+	undoable
+	created int
+}
+
+type undoable struct {
+	accounts map[int]modelAccount
+	logs     []api.Log
+	back     int
+	doomed   []int
+}
+
+func modelOf(list []api.Account) *modelWorld {
+	w := &modelWorld{undoable: undoable{accounts: map[int]modelAccount{}}}
+	for _, a := range list {
+		m := modelAccount{balance: large(a.Balance), nonce: a.Nonce, code: a.Code, slots: map[api.Word]api.Word{}}
+		for _, s := range a.Slots {
+			m.slots[s.Key] = s.Value
+		}
+		w.accounts[a.ID] = m
+	}
+	return w
+}
+
+func (u undoable) copied() undoable {
+	u.accounts = maps.Clone(u.accounts)
+	for id, a := range u.accounts {
+		a.slots = maps.Clone(a.slots)
+		u.accounts[id] = a
+	}
+	u.logs, u.doomed = slices.Clone(u.logs), slices.Clone(u.doomed)
+	return u
+}
+
+// at is an account; one that there is not is as an empty one.
+func (w *modelWorld) at(id int) modelAccount {
+	a, is := w.accounts[id]
+	if !is {
+		a = modelAccount{balance: new(big.Int), slots: map[api.Word]api.Word{}}
+	}
+	return a
+}
+
+func (w *modelWorld) gives(id int, coins *big.Int) {
+	a := w.at(id)
+	a.balance = new(big.Int).Add(a.balance, coins)
+	w.accounts[id] = a
+}
+
+func (w *modelWorld) sends(from, to int, coins *big.Int) {
+	w.gives(from, new(big.Int).Neg(coins))
+	w.gives(to, coins)
+}
+
+func (w *modelWorld) raises(id int) {
+	a := w.at(id)
+	a.nonce++
+	w.accounts[id] = a
+}
+
+// told is what Accounts must tell.
+func (w *modelWorld) told() []api.Account {
+	var list []api.Account
+	for _, id := range slices.Sorted(maps.Keys(w.accounts)) {
+		m := w.accounts[id]
+		a := api.Account{ID: id, Balance: word(m.balance), Nonce: m.nonce, Code: m.code}
+		for key, v := range m.slots {
+			if v != of(0) {
+				a.Slots = append(a.Slots, api.Slot{Key: key, Value: v})
+			}
+		}
+		slices.SortFunc(a.Slots, func(a, b api.Slot) int { return large(a.Key).Cmp(large(b.Key)) })
+		list = append(list, a)
+	}
+	return list
+}
+
+// modelEnd is how a frame of the model ended.
+type modelEnd struct {
+	good bool
+	left int
+	out  string
+}
+
+// calls is a call at a depth; none, if that is too deep or there are too few coins.
+func (w *modelWorld) calls(depth, from, to int, v api.Word, gas int, data string) modelEnd {
+	if depth > 64 || w.at(from).balance.Cmp(large(v)) < 0 {
+		return modelEnd{left: gas}
+	}
+	before := w.copied()
+	w.sends(from, to, large(v))
+	m := &model{w: w, depth: depth, code: w.at(to).code, self: to, caller: from, value: v, data: data, gas: gas}
+	return m.runs(before)
+}
+
+// creates is a creation at a depth, with the ID.
+func (w *modelWorld) creates(depth, from int, v api.Word, gas int, code string) (modelEnd, int) {
+	if depth > 64 || w.at(from).balance.Cmp(large(v)) < 0 {
+		return modelEnd{left: gas}, 0
+	}
+	w.raises(from)
+	id := 1000000 + w.created
+	w.created++
+	before := w.copied()
+	w.sends(from, id, large(v))
+	m := &model{w: w, depth: depth, code: code, self: id, caller: from, value: v, gas: gas}
+	end := m.runs(before)
+	if !end.good || len(end.out) > 2000 || 200*len(end.out) > end.left {
+		w.undoable = before
+		return modelEnd{}, 0
+	}
+	a := w.at(id)
+	a.code = end.out
+	w.accounts[id] = a
+	return modelEnd{good: true, left: end.left - 200*len(end.out)}, id
+}
+
+// does does an order that is not refused, and tells how many coins went with what was destroyed.
+func (w *modelWorld) does(o api.Order) (api.Result, *big.Int) {
+	paid := func(gas int) *big.Int {
+		return new(big.Int).Mul(big.NewInt(int64(gas)), big.NewInt(int64(o.Price)))
+	}
+	w.logs, w.back, w.doomed = nil, 0, nil
+	gas := o.Gas - 21000 - 4*len(o.Data)
+	gas -= 64 * (len(o.Data) - bytes.Count([]byte(o.Data), []byte{0}))
+	w.gives(o.From, new(big.Int).Neg(paid(o.Gas)))
+	var end modelEnd
+	var r api.Result
+	if o.To == 0 {
+		end, r.Created = w.creates(1, o.From, o.Value, gas-32000, o.Data)
+	} else {
+		w.raises(o.From)
+		end = w.calls(1, o.From, o.To, o.Value, gas, o.Data)
+		r.Out = end.out
+	}
+	r.Good, r.Logs = end.good, w.logs
+	r.Gas = o.Gas - end.left
+	r.Gas -= min(w.back, r.Gas/2)
+	w.gives(o.From, paid(o.Gas-r.Gas))
+	w.gives(o.Miner, paid(r.Gas))
+	gone := new(big.Int)
+	for _, id := range w.doomed {
+		gone.Add(gone, w.at(id).balance)
+		delete(w.accounts, id)
+	}
+	return r, gone
+}
 
 // model is a frame as the document tells it, in the plainest way, with numbers of any length.
 type model struct {
-	code, data  string
-	value       api.Word
-	balances    map[int]*big.Int
-	slots       map[api.Word]api.Word
-	stack       []api.Word
-	memory      []byte
-	gas, back   int
-	at          int
-	logs        []api.Log
-	out         string
-	bad, isDone bool
+	w            *modelWorld
+	depth        int
+	code, data   string
+	self, caller int
+	value        api.Word
+	stack        []api.Word
+	memory       []byte
+	gas, at      int
+	out          string
+	bad, isDone  bool
+}
+
+func (m *model) runs(before undoable) modelEnd {
+	for !m.bad && !m.isDone {
+		m.step()
+	}
+	if m.bad {
+		m.w.undoable = before
+		return modelEnd{}
+	}
+	return modelEnd{good: true, left: m.gas, out: m.out}
 }
 
 // pops takes words off, the topmost first.
@@ -37,26 +201,32 @@ func (m *model) pops(n int) []api.Word {
 
 func (m *model) lays(w api.Word) { m.stack = append(m.stack, w) }
 
-// pays ends the frame badly if there is not gas enough for an instruction and a stretch of the memory.
-func (m *model) pays(cost int, a, n *big.Int) bool {
-	total := big.NewInt(int64(cost))
-	end := new(big.Int).Add(a, n)
-	if n.Sign() > 0 {
-		have := big.NewInt(int64(len(m.memory) / 32))
-		words := new(big.Int).Add(end, big.NewInt(31))
-		words.Rsh(words, 5)
-		if words.Cmp(have) > 0 {
-			total.Add(total, memoryPrice(words)).Sub(total, memoryPrice(have))
+// pays ends the frame badly if there is not gas enough for an instruction and stretches of the memory, each of two words.
+func (m *model) pays(cost int, stretches ...api.Word) bool {
+	return m.paysLarge(big.NewInt(int64(cost)), stretches...)
+}
+
+func (m *model) paysLarge(cost *big.Int, stretches ...api.Word) bool {
+	have := big.NewInt(int64(len(m.memory) / 32))
+	most := have
+	for i := 0; i < len(stretches); i += 2 {
+		if stretches[i+1] == of(0) {
+			continue
+		}
+		words := new(big.Int).Add(large(stretches[i]), large(stretches[i+1]))
+		words.Add(words, big.NewInt(31)).Rsh(words, 5)
+		if words.Cmp(most) > 0 {
+			most = words
 		}
 	}
+	total := new(big.Int).Sub(memoryPrice(most), memoryPrice(have))
+	total.Add(total, cost)
 	if total.Cmp(big.NewInt(int64(m.gas))) > 0 {
 		m.bad = true
 		return false
 	}
 	m.gas -= int(total.Int64())
-	for n.Sign() > 0 && int64(len(m.memory)) < end.Int64() {
-		m.memory = append(m.memory, make([]byte, 32)...)
-	}
+	m.memory = append(m.memory, make([]byte, 32*int(most.Int64())-len(m.memory))...)
 	return true
 }
 
@@ -66,17 +236,21 @@ func memoryPrice(words *big.Int) *big.Int {
 	return square.Add(square, new(big.Int).Mul(words, big.NewInt(3)))
 }
 
-// takesOf is how many words an instruction needs; -1, if the byte is none of those that call none.
+// takesOf is how many words an instruction needs; -1, if the byte is none.
 func takesOf(b int) int {
 	switch {
 	case b == stop, b == mark, b == self, b >= caller && b <= size, b >= gasLeft && b <= room, b >= push1 && b <= push32:
 		return 0
-	case b == zero, b == not, b == balance, b == arg, b == pop, b == load, b == keep, b == jump:
+	case b == zero, b == not, b == balance, b == arg, b == pop, b == load, b == keep, b == jump, b == destroy:
 		return 1
-	case b == addMod, b == mulMod, b == tell:
+	case b == addMod, b == mulMod, b == tell, b == create:
 		return 3
 	case b >= 1 && b <= 22, b == store, b == store8, b == put, b == jumpIf, b == give:
 		return 2
+	case b == call:
+		return 7
+	case b == lend:
+		return 6
 	case b >= 128 && b <= 143:
 		return b - 127
 	case b >= 144 && b <= 159:
@@ -97,7 +271,6 @@ func (m *model) step() {
 		m.bad = true
 		return
 	}
-	none := new(big.Int)
 	switch {
 	case b == stop:
 		m.isDone = true
@@ -106,23 +279,25 @@ func (m *model) step() {
 	case b <= room:
 		m.asks(b)
 	case b >= push1 && b <= push32:
-		if m.pays(3, none, none) {
+		if m.pays(3) {
 			list := make([]byte, b-95)
 			copy(list, m.code[m.at+1:])
 			m.lays(large256(string(list)))
 			m.at += b - 95
 		}
 	case b >= 128 && b <= 143:
-		if m.pays(3, none, none) {
+		if m.pays(3) {
 			m.lays(m.stack[len(m.stack)-takes])
 		}
 	case b >= 144:
-		if m.pays(3, none, none) {
+		if m.pays(3) {
 			list := m.pops(takes)
 			list[0], list[takes-1] = list[takes-1], list[0]
 			slices.Reverse(list)
 			m.stack = append(m.stack, list...)
 		}
+	case b >= create:
+		m.leaves(b, m.pops(takes))
 	default:
 		m.moves(b, m.pops(takes))
 	}
@@ -132,28 +307,25 @@ func (m *model) step() {
 func (m *model) works(b, takes int) {
 	list := append(m.pops(takes), of(0), of(0))
 	cost := map[int]int{mul: 5, div: 5, mod: 5, sdiv: 5, smod: 5, extend: 5, addMod: 8, mulMod: 8, exp: 10 + 10*len(large(list[1]).Bytes())}[b]
-	if m.pays(max(3, cost), new(big.Int), new(big.Int)) {
+	if m.pays(max(3, cost)) {
 		m.lays(expected(byte(b), list[0], list[1], list[2]))
 	}
 }
 
+func idOf(w api.Word) int { return int(w[0] % (1 << 32)) }
+
 func (m *model) asks(b int) {
 	cost := map[int]int{balance: 20, arg: 3}[b]
-	if !m.pays(max(2, cost), new(big.Int), new(big.Int)) {
+	if !m.pays(max(2, cost)) {
 		return
 	}
 	switch b {
 	case self:
-		m.lays(of(target))
+		m.lays(of(uint64(m.self)))
 	case balance:
-		id := int(m.pops(1)[0][0] % (1 << 32))
-		if m.balances[id] == nil {
-			m.lays(of(0))
-		} else {
-			m.lays(word(m.balances[id]))
-		}
+		m.lays(word(m.w.at(idOf(m.pops(1)[0])).balance))
 	case caller:
-		m.lays(of(sender))
+		m.lays(of(uint64(m.caller)))
 	case value:
 		m.lays(m.value)
 	case size:
@@ -174,75 +346,122 @@ func (m *model) asks(b int) {
 }
 
 func (m *model) moves(b int, l []api.Word) {
-	none, a := new(big.Int), new(big.Int)
-	if len(l) > 0 {
-		a = large(l[0])
-	}
 	switch b {
 	case pop:
-		m.pays(2, none, none)
+		m.pays(2)
 	case load:
-		if m.pays(3, a, big.NewInt(32)) {
-			m.lays(large256(string(m.memory[a.Int64() : a.Int64()+32])))
+		if m.pays(3, l[0], of(32)) {
+			m.lays(large256(m.piece(l[0], of(32))))
 		}
 	case store:
-		if m.pays(3, a, big.NewInt(32)) {
-			copy(m.memory[a.Int64():], inBytes(l[1]))
+		if m.pays(3, l[0], of(32)) {
+			copy(m.memory[l[0][0]:], inBytes(l[1]))
 		}
 	case store8:
-		if m.pays(3, a, big.NewInt(1)) {
-			m.memory[a.Int64()] = inBytes(l[1])[31]
+		if m.pays(3, l[0], of(1)) {
+			m.memory[l[0][0]] = inBytes(l[1])[31]
 		}
 	case keep:
-		if m.pays(50, none, none) {
-			m.lays(m.slots[l[0]])
+		if m.pays(50) {
+			m.lays(m.w.at(m.self).slots[l[0]])
 		}
 	case put:
 		m.puts(l[0], l[1])
 	case jump:
-		if m.pays(8, none, none) {
-			m.jumps(a)
+		if m.pays(8) {
+			m.jumps(large(l[0]))
 		}
 	case jumpIf:
-		if m.pays(10, none, none) && l[1] != of(0) {
-			m.jumps(a)
+		if m.pays(10) && l[1] != of(0) {
+			m.jumps(large(l[0]))
 		}
 	case mark:
-		m.pays(1, none, none)
+		m.pays(1)
 	case tell:
-		n := large(l[1])
-		if n.BitLen() > 40 {
-			m.bad = true
-		} else if m.pays(375+8*int(n.Int64()), a, n) {
-			m.logs = append(m.logs, api.Log{Account: target, Topic: l[2], Data: m.piece(a, n)})
-		}
-	case give:
-		n := large(l[1])
-		if m.pays(0, a, n) {
-			m.out, m.isDone = m.piece(a, n), true
+		cost := new(big.Int).Mul(large(l[1]), big.NewInt(8))
+		if m.paysLarge(cost.Add(cost, big.NewInt(375)), l[0], l[1]) {
+			m.w.logs = append(m.w.logs, api.Log{Account: m.self, Topic: l[2], Data: m.piece(l[0], l[1])})
 		}
 	}
 }
 
-func (m *model) piece(a, n *big.Int) string {
-	if n.Sign() == 0 {
+// leaves does what begins other frames, or ends this one.
+func (m *model) leaves(b int, l []api.Word) {
+	switch b {
+	case create:
+		if m.pays(32000, l[1], l[2]) {
+			end, id := m.w.creates(m.depth+1, m.self, l[0], m.gas, m.piece(l[1], l[2]))
+			m.gas = end.left
+			m.lays(of(uint64(id)))
+		}
+	case call:
+		cost := big.NewInt(40)
+		gift := 0
+		if l[2] != of(0) {
+			cost.Add(cost, big.NewInt(9000))
+			gift = 2300
+		}
+		if _, is := m.w.accounts[idOf(l[1])]; !is {
+			cost.Add(cost, big.NewInt(25000))
+		}
+		if m.paysLarge(cost.Add(cost, large(l[0])), l[3:]...) {
+			m.returns(m.w.calls(m.depth+1, m.self, idOf(l[1]), l[2], int(l[0][0])+gift, m.piece(l[3], l[4])), l[5], l[6])
+		}
+	case lend:
+		cost := big.NewInt(40)
+		if !m.paysLarge(cost.Add(cost, large(l[0])), l[2:]...) {
+			return
+		}
+		end := modelEnd{left: int(l[0][0])}
+		if m.depth < 64 {
+			before := m.w.copied()
+			f := &model{w: m.w, depth: m.depth + 1, code: m.w.at(idOf(l[1])).code, self: m.self, caller: m.caller, value: m.value, data: m.piece(l[2], l[3]), gas: end.left}
+			end = f.runs(before)
+		}
+		m.returns(end, l[4], l[5])
+	case give:
+		if m.pays(0, l[0], l[1]) {
+			m.out, m.isDone = m.piece(l[0], l[1]), true
+		}
+	case destroy:
+		m.w.sends(m.self, idOf(l[0]), m.w.at(m.self).balance)
+		if !slices.Contains(m.w.doomed, m.self) {
+			m.w.doomed = append(m.w.doomed, m.self)
+			m.w.back += 24000
+		}
+		m.isDone = true
+	}
+}
+
+// returns goes on behind a call.
+func (m *model) returns(end modelEnd, c, d api.Word) {
+	m.gas += end.left
+	m.lays(truth(end.good))
+	for i := range min(uint64(len(end.out)), large(d).Uint64()) {
+		m.memory[c[0]+i] = end.out[i]
+	}
+}
+
+func (m *model) piece(a, n api.Word) string {
+	if n == of(0) {
 		return ""
 	}
-	return string(m.memory[a.Int64() : a.Int64()+n.Int64()])
+	return string(m.memory[a[0] : a[0]+n[0]])
 }
 
 func (m *model) puts(key, w api.Word) {
+	slots := m.w.at(m.self).slots
 	cost := 5000
-	if m.slots[key] == of(0) && w != of(0) {
+	if slots[key] == of(0) && w != of(0) {
 		cost = 20000
 	}
-	if !m.pays(cost, new(big.Int), new(big.Int)) {
+	if !m.pays(cost) {
 		return
 	}
-	if m.slots[key] != of(0) && w == of(0) {
-		m.back += 15000
+	if slots[key] != of(0) && w == of(0) {
+		m.w.back += 15000
 	}
-	m.slots[key] = w
+	slots[key] = w
 }
 
 // jumps goes through the whole code for the Marks that stand in no Push.
@@ -258,154 +477,4 @@ func (m *model) jumps(a *big.Int) {
 		}
 	}
 	m.bad = true
-}
-
-// modelled is what must come of an order to the account 2 that is not refused.
-func modelled(list []api.Account, o api.Order) (api.Result, []api.Account) {
-	gas := o.Gas - atOnce - 4*len(o.Data)
-	gas -= 64 * (len(o.Data) - bytes.Count([]byte(o.Data), []byte{0}))
-	m := &model{code: list[1].Code, data: o.Data, value: o.Value, gas: gas, balances: map[int]*big.Int{}, slots: map[api.Word]api.Word{}}
-	all := new(big.Int).Mul(big.NewInt(int64(o.Gas)), big.NewInt(int64(o.Price)))
-	sent := large(o.Value)
-	for _, a := range list {
-		m.balances[a.ID] = large(a.Balance)
-	}
-	m.balances[sender].Sub(m.balances[sender], all).Sub(m.balances[sender], sent)
-	m.balances[target].Add(m.balances[target], sent)
-	for _, s := range list[1].Slots {
-		m.slots[s.Key] = s.Value
-	}
-	for !m.bad && !m.isDone {
-		m.step()
-	}
-	r := api.Result{Good: true, Logs: m.logs, Out: m.out}
-	if m.bad {
-		m.gas, m.back, r = 0, 0, api.Result{}
-		m.slots = map[api.Word]api.Word{}
-		for _, s := range list[1].Slots {
-			m.slots[s.Key] = s.Value
-		}
-		m.balances[sender].Add(m.balances[sender], sent)
-		m.balances[target].Sub(m.balances[target], sent)
-	}
-	r.Gas = o.Gas - m.gas
-	r.Gas -= min(m.back, r.Gas/2)
-	if m.balances[o.Miner] == nil {
-		m.balances[o.Miner] = new(big.Int)
-	}
-	m.balances[sender].Add(m.balances[sender], big.NewInt(int64((o.Gas-r.Gas)*o.Price)))
-	m.balances[o.Miner].Add(m.balances[o.Miner], big.NewInt(int64(r.Gas*o.Price)))
-	return r, m.accounts(list)
-}
-
-func (m *model) accounts(list []api.Account) []api.Account {
-	list = slices.Clone(list)
-	if len(m.balances) > len(list) {
-		list = append(list, api.Account{ID: miner})
-	}
-	for i := range list {
-		list[i].Balance = word(m.balances[list[i].ID])
-	}
-	list[0].Nonce++
-	list[1].Slots = nil
-	for key, w := range m.slots {
-		if w != of(0) {
-			list[1].Slots = append(list[1].Slots, api.Slot{Key: key, Value: w})
-		}
-	}
-	slices.SortFunc(list[1].Slots, func(a, b api.Slot) int { return large(a.Key).Cmp(large(b.Key)) })
-	return list
-}
-
-// drawCode draws a code that mostly has the words that it takes, and sometimes not.
-func drawCode(r *rand.Rand) string {
-	code, depth := "", 0
-	for n := r.Intn(150); n > 0; n-- {
-		b := r.Intn(160)
-		if r.Intn(100) == 0 {
-			b = r.Intn(256)
-		}
-		takes := takesOf(b)
-		if takes < 0 && r.Intn(30) > 0 || takes > depth && r.Intn(50) > 0 || b == stop && r.Intn(20) > 0 || b == give && r.Intn(10) > 0 || b >= 60 && b <= 64 && b != give {
-			b, takes = push1+r.Intn(2), 0
-		}
-		switch {
-		case (b == jump || b == jumpIf) && depth >= takes && r.Intn(8) > 0:
-			code += text(push1+1, (len(code)+4)/256, (len(code)+4)%256, b, mark)
-			depth += 1 - takes
-			continue
-		case b == load || b == store || b == store8 || b == tell || b == give:
-			code += push(uint64(r.Intn(90)), uint64(r.Intn(200)))
-			depth += 2
-		}
-		code += text(b)
-		switch {
-		case b >= push1 && b <= push32:
-			w := inBytes(draw(r))
-			code += w[32-(b-95):]
-			depth++
-		case b >= 96 && b <= 143 || b <= 32 && takes == 0:
-			depth++
-		case b <= 32 || b == load || b == keep:
-			depth += 1 - max(takes, 0)
-		case b < 96:
-			depth -= max(takes, 0)
-		}
-	}
-	return code[:min(len(code), 2000)]
-}
-
-// TestModel: P6, P7 and P9 of drawn codes and orders, each world doing several.
-func TestModel(t *testing.T) {
-	r := rand.New(rand.NewSource(1))
-	good := 0
-	for range 4000 {
-		list := []api.Account{{ID: sender, Balance: api.Word{0, r.Uint64(), 0, r.Uint64() >> 1}}, {ID: target, Balance: of(r.Uint64()), Code: drawCode(r), Slots: slots(r.Intn(5), of(6))}}
-		w := world(t, list...)
-		for nonce := range 3 {
-			data := make([]byte, r.Intn(50))
-			for i := range data {
-				data[i] = byte(r.Intn(256) * r.Intn(2))
-			}
-			o := api.Order{From: sender, To: target, Nonce: nonce, Value: of(r.Uint64()), Price: r.Intn(3), Gas: 26000 + r.Intn(1+r.Intn(200000)), Data: string(data), Miner: 1 + r.Intn(3)}
-			want, after := modelled(list, o)
-			got := does(t, w, o)
-			if list = plain(w.Accounts()); !reflect.DeepEqual(got, want) || !reflect.DeepEqual(list, after) {
-				t.Fatalf("P6: %+v of %x:\n%+v, want\n%+v;\n%v, want\n%v", o, list[1].Code, got, want, list, after)
-			}
-			if got.Gas*2 < atOnce || got.Gas > o.Gas {
-				t.Fatalf("P9: %+v takes %d", o, got.Gas)
-			}
-			if got.Good {
-				good++
-			}
-		}
-	}
-	if good < 2000 || good > 10000 {
-		t.Errorf("%d of 12000 orders end well: the codes that are drawn are too tame or too wild", good)
-	}
-}
-
-// TestAnyOrder: P1, no order makes a call panic or never end, whatever its numbers are.
-func TestAnyOrder(t *testing.T) {
-	r := rand.New(rand.NewSource(2))
-	numbers := []int{-1 << 63, -1, 0, 1, 2, 3, 20999, 21000, 53000, 1000000, 1000001, 1<<32 - 1, 1 << 32, 1 << 62, 1<<63 - 1}
-	any := func() int { return numbers[r.Intn(len(numbers))] }
-	for range 3000 {
-		code := make([]byte, r.Intn(300))
-		r.Read(code)
-		w, err := purser.New([]api.Account{{ID: 1, Balance: draw(r)}, {ID: 2, Code: string(code)}})
-		if err != nil {
-			t.Fatal(err)
-		}
-		for range 10 {
-			o := api.Order{From: 1, To: 2, Gas: 1000000, Miner: 1, Value: draw(r), Data: bytesOf(r.Intn(2100)), Nonce: find(w, 1).Nonce}
-			for _, p := range []*int{&o.From, &o.To, &o.Nonce, &o.Gas, &o.Price, &o.Miner} {
-				if r.Intn(6) == 0 {
-					*p = any()
-				}
-			}
-			w.Do(o)
-		}
-	}
 }
